@@ -1,0 +1,1 @@
+"""A spool: listings on paper, sheet by sheet, wherever power is lost."""
