@@ -49,6 +49,18 @@ def is_note_every(value):
     return within(value, 1, 1000)
 
 
+def is_back(value):
+    return within(value, 1, 1000)
+
+
+def is_from(value):
+    return within(value, 1, 1000000)
+
+
+def is_most(value):
+    return within(value, 1, 100)
+
+
 def is_writer(value):
     return within(value, 1, WRITERS)
 
@@ -99,3 +111,11 @@ def writer_refusal(spool, number):
     if not spool.writer_at(number).on:
         return WRITER_OFF
     return 0
+
+
+# For the calls on what a writer has in hand.
+def empty_hand_refusal(spool, number):
+    refusal = writer_refusal(spool, number)
+    if refusal == 0 and spool.writer_at(number).hand == 0:
+        return WRONG_STATE
+    return refusal

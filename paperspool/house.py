@@ -11,8 +11,18 @@ from paperspool.outputcalls import (
     purge,
     set_copies,
 )
+from paperspool.questions import (
+    tell_clean,
+    tell_output,
+    tell_page,
+    tell_pages,
+    tell_paper,
+    tell_queue,
+    tell_sheet,
+    tell_writer,
+)
 from paperspool.spool import Spool
-from paperspool.writercalls import mount, serve, start, stop, turn
+from paperspool.writercalls import back, cut, interrupt, mount, note, power, serve, start, stop, turn
 
 # By a call's number: how many whole numbers it has, and whether a row behind them.
 SHAPES = (
@@ -30,8 +40,22 @@ SHAPES = (
     (2, False),  # mount
     (1, False),  # stop
     (1, False),  # turn
+    (1, False),  # note
+    (2, False),  # back
+    (1, False),  # interrupt
+    (0, False),  # power
+    (1, False),  # cut
+    (1, False),  # pages
+    (2, False),  # page
+    (1, False),  # output
+    (1, False),  # queue
+    (1, False),  # writer
+    (3, False),  # paper
+    (2, False),  # sheet
+    (3, False),  # clean
 )
 FIRST_WRITER_CALL = 9
+FIRST_QUESTION = 19
 
 
 # A slice of the list is a copy: what's handed in stays as it is.
@@ -79,7 +103,9 @@ def answer_next(spool, reader):
         row = reader.take(reader.take_one())
     if call < FIRST_WRITER_CALL:
         return answer_on_outputs(spool, call, numbers, row)
-    return answer_on_writers(spool, call, numbers, row)
+    if call < FIRST_QUESTION:
+        return answer_on_writers(spool, call, numbers, row)
+    return answer_question(spool, call, numbers)
 
 
 def answer_on_outputs(spool, call, numbers, row):
@@ -111,4 +137,32 @@ def answer_on_writers(spool, call, numbers, row):
         return mount(spool, numbers[0], numbers[1])
     if call == 12:
         return stop(spool, numbers[0])
-    return turn(spool, numbers[0])
+    if call == 13:
+        return turn(spool, numbers[0])
+    if call == 14:
+        return note(spool, numbers[0])
+    if call == 15:
+        return back(spool, numbers[0], numbers[1])
+    if call == 16:
+        return interrupt(spool, numbers[0])
+    if call == 17:
+        return power(spool)
+    return cut(spool, numbers[0])
+
+
+def answer_question(spool, call, numbers):
+    if call == 19:
+        return tell_pages(spool, numbers[0])
+    if call == 20:
+        return tell_page(spool, numbers[0], numbers[1])
+    if call == 21:
+        return tell_output(spool, numbers[0])
+    if call == 22:
+        return tell_queue(spool, numbers[0])
+    if call == 23:
+        return tell_writer(spool, numbers[0])
+    if call == 24:
+        return tell_paper(spool, numbers[0], numbers[1], numbers[2])
+    if call == 25:
+        return tell_sheet(spool, numbers[0], numbers[1])
+    return tell_clean(spool, numbers[0], numbers[1], numbers[2])

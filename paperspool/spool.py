@@ -1,10 +1,11 @@
 """What there is: outputs, writers, and the spool that has them.
 
-A place is a tuple: a copy and a step. An entry of paper is a tuple: a sheet's
-serial, output, copy, step and rows, or a mark's serial alone. A writer's hand
-is the number of its output in hand, or 0. A spool's most_rows, cap and
-paper_room are the document's M, cap and P, a writer's note_every is its E.
+A place is a tuple: a copy and a step. A writer's hand is the number of its
+output in hand, or 0. A spool's most_rows, cap and paper_room are the document's
+M, cap and P, a writer's note_every is its E.
 """
+
+from paperspool.papers import is_mark
 
 WRITERS = 8
 FIRST_PLACE = (1, 0)
@@ -81,6 +82,29 @@ class Writer:
         self.noted_place = self.place
         self.since = 0
 
+    def return_to_noted(self):
+        self.place = self.noted_place
+        self.serial = self.noted_serial
+        self.since = 0
+        if not self.ends_with_mark():
+            self.put_mark()
+
+    # Not before the first step: what's ahead of it was printed before this copy came in hand.
+    def go_back(self, most_steps):
+        steps = min(most_steps, self.place[1] - self.first_step)
+        if steps > 0:
+            self.place = (self.place[0], self.place[1] - steps)
+            self.serial -= steps
+            self.put_mark()
+        self.note()
+        return steps
+
+    def ends_with_mark(self):
+        return len(self.paper) > 0 and is_mark(self.paper[-1])
+
+    def put_mark(self):
+        self.paper.append((self.serial,))
+
 
 class Spool:
     def __init__(self, most_rows, cap, paper_room):
@@ -99,3 +123,18 @@ class Spool:
 
     def is_in_hand(self, number):
         return number in [writer.hand for writer in self.writers]
+
+    def is_waiting(self, output):
+        if not output.closed or output.held or output.is_done():
+            return False
+        return not self.is_in_hand(output.number)
+
+    # In the order in which they go.
+    def waiting_outputs(self):
+        waiting = [output for output in self.outputs.values() if self.is_waiting(output)]
+        return sorted(waiting, key=lambda output: (-output.priority, output.number))
+
+    def lose_power(self):
+        for writer in self.writers:
+            if writer.hand != 0:
+                writer.return_to_noted()

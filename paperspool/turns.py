@@ -1,12 +1,14 @@
 """A turn of a writer that's on."""
 
 from paperspool.checks import NO_ROOM
+from paperspool.rows import with_rows
 from paperspool.sheets import next_sheet, rows_of_sheet
 
 NOTHING_FREE = 0
 PRINTED = 1
 TAKEN = 2
 OTHER_FORM = 3
+NOTHING_PRINTED = 0
 
 
 def take_turn(spool, writer):
@@ -19,25 +21,29 @@ def take_turn(spool, writer):
     return answer
 
 
+# A turn in which power is lost: an output that it would take isn't taken.
+def cut_turn(spool, writer):
+    answer = [NOTHING_PRINTED]
+    if writer.hand != 0:
+        if is_paper_full(spool, writer):
+            return [NO_ROOM]
+        answer = print_sheet(spool, writer)
+    spool.lose_power()
+    return answer
+
+
 def take_output(spool, writer):
     free = free_outputs(spool, writer)
     fitting = [output for output in free if output.form == writer.form]
     if len(fitting) > 0:
         return take_in_hand(writer, fitting[0])
     if len(free) > 0:
-        return [OTHER_FORM, 1, free[0].form]
+        return with_rows(OTHER_FORM, [[free[0].form]])
     return [NOTHING_FREE]
 
 
 def free_outputs(spool, writer):
-    free = [output for output in spool.outputs.values() if is_free(spool, writer, output)]
-    return sorted(free, key=lambda output: (-output.priority, output.number))
-
-
-def is_free(spool, writer, output):
-    if not output.closed or output.held or output.is_done():
-        return False
-    return output.output_class in writer.classes and not spool.is_in_hand(output.number)
+    return [output for output in spool.waiting_outputs() if output.output_class in writer.classes]
 
 
 def take_in_hand(writer, output):
@@ -47,7 +53,7 @@ def take_in_hand(writer, output):
     else:
         writer.hand = output.number
         writer.begin_copy(place)
-    return [TAKEN, 3, output.number, place[0], place[1]]
+    return with_rows(TAKEN, [[output.number, place[0], place[1]]])
 
 
 # Behind every sheet there must be room for a mark.
@@ -62,7 +68,7 @@ def print_sheet(spool, writer):
     step = writer.place[1]
     writer.serial += 1
     writer.paper.append((writer.serial, output.number, copy, step, rows_of_sheet(output, writer.place)))
-    return [PRINTED, 3, output.number, copy, step]
+    return with_rows(PRINTED, [[output.number, copy, step]])
 
 
 def go_on(spool, writer):

@@ -67,12 +67,84 @@ def turn(writer=1):
     return [13, writer]
 
 
+def turns(count, writer=1):
+    return [turn(writer) for each in range(count)]
+
+
+def note(writer=1):
+    return [14, writer]
+
+
+def back(writer=1, k=1):
+    return [15, writer, k]
+
+
+def interrupt(writer=1):
+    return [16, writer]
+
+
+def power():
+    return [17]
+
+
+def cut(writer=1):
+    return [18, writer]
+
+
+def tell_pages(output=1):
+    return [19, output]
+
+
+def tell_page(output=1, p=1):
+    return [20, output, p]
+
+
+def tell_output(output=1):
+    return [21, output]
+
+
+def tell_queue(klass=1):
+    return [22, klass]
+
+
+def tell_writer(writer=1):
+    return [23, writer]
+
+
+def tell_paper(writer=1, first=1, most=100):
+    return [24, writer, first, most]
+
+
+def tell_sheet(writer=1, k=1):
+    return [25, writer, k]
+
+
+def tell_clean(writer=1, first=1, most=100):
+    return [26, writer, first, most]
+
+
 def output_of(pages, number=1, **told):
     """The calls that open, fill and close an output of so many pages of one row."""
     calls = [open_(**told)]
     for page in range(pages):
         calls.append(line(number, "1", f"PAGE {page + 1}"))
     return calls + [close(number)]
+
+
+def steps(pages, count, separators):
+    """All sheets of an output, each its copy and step, told the long way."""
+    of_copy = list(range(0, pages + 2)) if separators else list(range(1, pages + 1))
+    return [(copy, step) for copy in range(1, count + 1) for step in of_copy]
+
+
+def everything():
+    """Questions on all that there is of outputs 1 to 3 and of each writer."""
+    calls = [tell_queue(klass) for klass in (1, 2, 3, 36)]
+    for number in (1, 2, 3):
+        calls += [tell_output(number), tell_pages(number), tell_page(number)]
+    for number in range(1, 9):
+        calls += [tell_writer(number), tell_paper(number), tell_clean(number)]
+    return calls
 
 
 def split(told):
@@ -88,6 +160,19 @@ def split(told):
     return result
 
 
+def parts(answer):
+    """The first number of an answer, and its rows; rows that don't come out even are an error."""
+    rows = []
+    at = 1
+    while at < len(answer):
+        size = answer[at]
+        if size < 0 or at + 1 + size > len(answer):
+            raise ValueError(f"the rows don't come out even: {answer}")
+        rows.append(answer[at + 1:at + 1 + size])
+        at += 1 + size
+    return answer[0], rows
+
+
 def joined(calls):
     return [number for call in calls for number in call]
 
@@ -100,6 +185,29 @@ def ask(*calls):
 def last(*calls):
     """What the last of these calls answers."""
     return ask(*calls)[-1]
+
+
+def told(*calls):
+    """The first number and the rows that the last of these calls answers."""
+    return parts(last(*calls))
+
+
+def entries(*calls, writer=1):
+    """The paper behind these calls, by the interface, 100 entries at a time."""
+    return all_rows(calls, tell_paper, writer)
+
+
+def clean_sheets(*calls, writer=1):
+    return all_rows(calls, tell_clean, writer)
+
+
+def all_rows(calls, question, writer):
+    found = []
+    while True:
+        count, rows = told(*calls, question(writer, len(found) + 1))
+        found += rows
+        if count < 100:
+            return found
 
 
 def spool_after(*calls):
@@ -139,11 +247,17 @@ class Refusals:
     """To be mixed into a TestCase."""
 
     def refused(self, refusal, before, call):
-        """The call is refused so, and has changed nothing."""
+        """The call is refused so, and has changed nothing: neither what's kept, nor what the questions tell."""
         spool = spool_after(*before)
         seen = picture(spool)
         self.assertEqual(go(spool, call), [[refusal]], call)
         self.assertEqual(picture(spool), seen, call)
+        self.same_behind(before, call)
+
+    def same_behind(self, before, *calls):
+        """What the questions tell is the same behind these calls."""
+        asked = everything()
+        self.assertEqual(ask(*before, *calls, *asked)[-len(asked):], ask(*before, *asked)[-len(asked):], calls)
 
     def accepted(self, answer, before, call):
         self.assertEqual(last(*before, call), answer, call)

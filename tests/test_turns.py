@@ -25,20 +25,12 @@ from tests.helper import (
     sheets,
     spool_after,
     start,
+    steps,
     stop,
     turn,
+    turns,
     words,
 )
-
-
-def turns(count, writer=1):
-    return [turn(writer) for each in range(count)]
-
-
-def steps(pages, count, separators):
-    """All sheets of an output, told the long way."""
-    of_copy = list(range(0, pages + 2)) if separators else list(range(1, pages + 1))
-    return [(copy, step) for copy in range(1, count + 1) for step in of_copy]
 
 
 def rows_printed(spool, writer=1):
